@@ -1,0 +1,1 @@
+"""Cubebook: sums over many ways of parting a table."""
