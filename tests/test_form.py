@@ -37,6 +37,11 @@ UNUSED_WORDS = re.compile(
     r"\b(type|typing|typing_extensions|enum|Enum|IntEnum|StrEnum|Flag|IntFlag|Generic|Protocol|ABC|ABCMeta|namedtuple"
     r"|NamedTuple|TypedDict|TYPE_CHECKING|abstractmethod)\b|dataclass|overload|contextmanager")
 
+CHANGERS = "append clear extend insert pop remove reverse setdefault update".split()
+WALKERS = "list tuple dict sorted sum any all enumerate".split()
+KEYWORDS = {"sorted": ("key", "reverse"), "min": ("key", "default"), "max": ("key", "default"), "sum": ("start",),
+            "enumerate": ("start",), "zip": ("strict",)}
+
 CLASS_METHODS = ["__init__", "__eq__", "__repr__", "__str__", "__len__"]
 OWN_VALUES = (str, int, list, tuple, dict, set, frozenset, bytes)
 FILE_NAMES_UNUSED = ["test", "tests", "testing", "site", "conftest", "sitecustomize", "usercustomize"]
@@ -156,6 +161,127 @@ def expression_faults(node):
     return faults
 
 
+# What stands round each node, so that a rule may ask where a thing stands.
+def parents_of(tree):
+    return {child: node for node in ast.walk(tree) for child in ast.iter_child_nodes(node)}
+
+
+def called_name(node):
+    return node.func.id if isinstance(node, ast.Call) and isinstance(node.func, ast.Name) else None
+
+
+def is_walked(node, parents):
+    around = parents[node]
+    if isinstance(around, (ast.For, ast.comprehension)):
+        return around.iter is node
+    if called_name(around) in ("min", "max"):
+        return around.args == [node]
+    if called_name(around) == "zip":
+        return node in around.args
+    return called_name(around) in WALKERS and around.args[0] is node
+
+
+def is_set_place(node, parents):
+    around = parents[node]
+    while isinstance(around, ast.BinOp):
+        around = parents[around]
+    if called_name(around) in ("sorted", "len"):
+        return not around.keywords
+    return isinstance(around, ast.Compare) and all(isinstance(op, (ast.In, ast.NotIn, ast.Eq, ast.NotEq))
+                                                   for op in around.ops)
+
+
+def call_faults(node, parents):
+    faults = []
+    name = called_name(node)
+    method = node.func.attr if isinstance(node.func, ast.Attribute) else None
+    if not is_walked(node, parents):
+        if name in ("zip", "enumerate", "reversed", "range") or method in ("items", "keys", "values"):
+            faults.append(("L23", node.lineno))
+    if name in ("set", "frozenset") and not is_set_place(node, parents):
+        faults.append(("L24", node.lineno))
+    for keyword in node.keywords:
+        own = name is not None and name not in BUILTINS
+        if not own and keyword.arg not in KEYWORDS.get(name, ()):
+            faults.append(("L22", node.lineno))
+    return faults
+
+
+def is_called(node, parents):
+    around = parents[node]
+    return isinstance(around, ast.Call) and around.func is node or isinstance(around, ast.keyword)
+
+
+# A name of Python's own is called, or stands as a class behind isinstance, except, raise or as a base.
+def kept_faults(node, parents):
+    around = parents[node]
+    if isinstance(around, ast.Tuple):
+        around = parents[around]
+    if is_called(node, parents) or called_name(around) == "isinstance":
+        return []
+    return [] if isinstance(around, (ast.ExceptHandler, ast.ClassDef, ast.Raise)) else [("L22", node.lineno)]
+
+
+def place_faults(tree):
+    parents = parents_of(tree)
+    faults = []
+    for node in ast.walk(tree):
+        if isinstance(node, ast.Call):
+            faults += call_faults(node, parents)
+        if isinstance(node, ast.Name) and node.id in BUILTINS:
+            faults += kept_faults(node, parents)
+        if isinstance(node, ast.Attribute) and node.attr in METHODS and not is_called(node, parents):
+            faults.append(("L25", node.lineno))
+        if isinstance(node, ast.Assign) and not isinstance(node.targets[0], (ast.Name, ast.Attribute, ast.Subscript)):
+            faults.append(("L6", node.lineno))
+        if isinstance(node, ast.BinOp) and isinstance(node.op, ast.Pow) and not isinstance(node.right, ast.Constant):
+            faults.append(("L27", node.lineno))
+    return faults
+
+
+def handler_faults(tree):
+    faults = []
+    for node in ast.walk(tree):
+        if isinstance(node, ast.ExceptHandler):
+            named = node.type.elts if isinstance(node.type, ast.Tuple) else [node.type]
+            for kind in named:
+                if kind is None or kind.id in ("Exception", "TypeError", "ValueError", "LookupError", "IndexError"):
+                    faults.append(("L19", node.lineno))
+    return faults
+
+
+# Within functions no name is bound that is a class or an import of the file, and no list or dict of its top is changed.
+def inner_faults(tree):
+    taken, kept = [], []
+    for node in tree.body:
+        if isinstance(node, ast.ImportFrom):
+            taken += [alias.name for alias in node.names]
+        if isinstance(node, ast.ClassDef):
+            taken.append(node.name)
+        if isinstance(node, ast.Assign):
+            kept += bound_names(node.targets[0])
+    faults = []
+    for top in tree.body:
+        for node in ast.walk(top):
+            if node is not top and any(name in taken for name in bound_names(node)):
+                faults.append(("L15", node.lineno))
+            if isinstance(node, (ast.Attribute, ast.Subscript)) and isinstance(node.value, ast.Name):
+                changes = isinstance(node.ctx, ast.Store) or getattr(node, "attr", None) in CHANGERS
+                if node.value.id in kept and changes:
+                    faults.append(("L15", node.lineno))
+    return faults
+
+
+def methods_and_values(tree):
+    methods, values = set(), set()
+    for node in ast.walk(tree):
+        if isinstance(node, ast.ClassDef):
+            methods |= {part.name for part in node.body if isinstance(part, ast.FunctionDef)}
+        if isinstance(node, ast.Attribute) and isinstance(node.ctx, ast.Store):
+            values.add(node.attr)
+    return methods, values
+
+
 def node_faults(node):
     name = node.__class__.__name__
     if name not in NODES:
@@ -172,7 +298,7 @@ def node_faults(node):
 
 def faults_of(source):
     tree = ast.parse(source)
-    faults = text_faults(source) + top_faults(tree)
+    faults = text_faults(source) + top_faults(tree) + place_faults(tree) + handler_faults(tree) + inner_faults(tree)
     docstring = tree.body[:1] if ast.get_docstring(tree) is not None else []
     for node in ast.walk(tree):
         if node not in docstring:
@@ -219,6 +345,33 @@ class FormTest(unittest.TestCase):
             with self.subTest(module=module):
                 self.assertNotIn(module, reached(draws, module))
 
+    def test_each_name_is_drawn_from_the_file_that_defines_it(self):
+        for path in self.files():
+            for node in ast.parse(path.read_text()).body:
+                if isinstance(node, ast.ImportFrom):
+                    source = (PACKAGE / (node.module.split(".")[1] + ".py")).read_text()
+                    defined = [name for part in ast.parse(source).body
+                               for name in bound_names(part.targets[0] if isinstance(part, ast.Assign) else part)]
+                    for alias in node.names:
+                        self.assertIn(alias.name, defined, path.name)
+
+    def test_no_name_is_a_method_here_and_a_value_there(self):
+        methods, values = set(), set()
+        for path in self.files():
+            found = methods_and_values(ast.parse(path.read_text()))
+            methods |= found[0]
+            values |= found[1]
+        self.assertEqual(methods & values, set())
+        self.assertEqual([name for name in values if any(hasattr(own, name) for own in OWN_VALUES)], [])
+
+    def test_what_is_drawn_is_used(self):
+        for path in self.files():
+            tree = ast.parse(path.read_text())
+            used = {node.id for node in ast.walk(tree) if isinstance(node, ast.Name)}
+            for node in tree.body:
+                if isinstance(node, ast.ImportFrom):
+                    self.assertEqual([alias.name for alias in node.names if alias.name not in used], [], path.name)
+
     def test_faults_are_seen(self):
         wrong = [
             "import os\n", "from os import path\n", "from .words import is_word\n", "from cubebook.words import *\n",
@@ -233,6 +386,13 @@ class FormTest(unittest.TestCase):
             "# a\ttab\n", "# \u00e9\n",
             "def f(x):\n    x = 1\n" + "    x = 2\n" * 39, "x = 1\n" + "#\n" * 400, "#" + " " * 119 + "x\n",
             "class A:\n    x = 1\n", "class A(B, C):\n    pass\n", "x = '%'\n", "@f\ndef g():\n    pass\n",
+            "def f(x):\n    y = zip(x, x)\n    return 1\n", "def f(x):\n    return x.items()\n",
+            "def f(x):\n    y = set(x)\n    return y == 1\n", "def f(x):\n    return x.split(sep=1)\n",
+            "def f(x):\n    y = len\n    return y(x)\n", "def f(x):\n    y = x.append\n    return y\n",
+            "def f(x):\n    y, z = x\n    return y\n", "def f(x):\n    return 2 ** x\n", "X = []\ndef f(x):\n    X.append(x)\n",
+            "def f(x):\n    try:\n        f(x)\n    except Exception:\n        pass\n",
+            "from cubebook.words import is_word\ndef f(is_word):\n    return 1\n",
+            "class A:\n    pass\ndef f(x):\n    A = x\n    return A\n", "X = {}\ndef f(x):\n    X[x] = 1\n",
             "def f(x):\n    return [y for y in x for z in y]\n", "def f(x):\n    with x:\n        pass\n",
         ]
         for source in wrong:
