@@ -1,0 +1,34 @@
+"""Reading a table for a question."""
+
+from cubebook.apart import apart
+from cubebook.errors import NoGrain
+from cubebook.grains import coarsest
+from cubebook.ladders import line_at
+from cubebook.picks import picked_everywhere
+from cubebook.tables import goes_along, merged_along
+
+
+# From the values at one level to those at another, but only those with picked finest values beneath them.
+def picked_lifts(ladder, level, other, chosen):
+    return dict([(line_at(line, level), line_at(line, other)) for line in ladder if line[0] in chosen])
+
+
+def picked_ways(ladders, kept, grain, picks):
+    chosen = picked_everywhere(ladders, picks)
+    return [picked_lifts(ladder, kept[axis], grain[axis], chosen[axis]) for axis, ladder in enumerate(ladders)]
+
+
+def read(ladders, table, kept, grain, picks):
+    if apart(ladders, kept, grain, picks) is not None:
+        raise NoGrain("the table does not answer the question")
+    return merged_along(picked_ways(ladders, kept, grain, picks), table)
+
+
+# The keys of a table whose cells are read for picks.
+def keys_read(ladders, table, kept, picks):
+    ways = picked_ways(ladders, kept, coarsest(ladders), picks)
+    return [key for key, cell in table if goes_along(ways, key)]
+
+
+def cells_read(ladders, table, kept, picks):
+    return len(keys_read(ladders, table, kept, picks))
