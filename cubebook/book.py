@@ -1,8 +1,8 @@
 """The book: ladders, the rows that stand, and the tables of them that are kept."""
 
 from cubebook.apart import apart
-from cubebook.errors import NoGrain, NoLadder, NoPick, NoValue, TooMuch
-from cubebook.grains import finest, is_axis, is_grain
+from cubebook.errors import NoGrain, NoLadder, NoPick, TooMuch
+from cubebook.grains import finest, is_grain, ladder_on
 from cubebook.ladders import is_ladder
 from cubebook.picks import is_picks
 from cubebook.pours import cells_changed, poured, tables_at
@@ -58,12 +58,12 @@ class Book:
         self.tables.pop(grain)
 
     def regroup(self, axis, level, value, parent):
-        self.put_ladder(axis, regrouped(self.ladder_of(axis), level, value, parent))
+        self.put_ladder(axis, regrouped(ladder_on(self.axes, axis), level, value, parent))
         return self.tables_renewed()
 
     # No row has the new finest value yet, so all tables stay as they are.
     def grow(self, axis, line):
-        self.put_ladder(axis, grown(self.ladder_of(axis), line))
+        self.put_ladder(axis, grown(ladder_on(self.axes, axis), line))
 
     def table(self, grain):
         if not self.is_kept(grain):
@@ -91,11 +91,6 @@ class Book:
     # Only what is a grain is looked for among the kept ones: (True,) is like (1,) to Python, and lists can't be keys.
     def is_kept(self, thing):
         return is_grain(self.axes, thing) and thing in self.tables
-
-    def ladder_of(self, axis):
-        if not is_axis(self.axes, axis):
-            raise NoValue("no such axis")
-        return self.axes[axis]
 
     def put_ladder(self, axis, ladder):
         self.axes = self.axes[:axis] + [ladder] + self.axes[axis + 1:]

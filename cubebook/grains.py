@@ -1,5 +1,6 @@
 """Grains: one level for each ladder."""
 
+from cubebook.errors import NoValue
 from cubebook.ladders import whole_of
 from cubebook.words import is_whole
 
@@ -7,6 +8,12 @@ from cubebook.words import is_whole
 # Whether a thing, any thing, is the number of one of the ladders.
 def is_axis(ladders, thing):
     return is_whole(thing) and 0 <= thing < len(ladders)
+
+
+def ladder_on(ladders, axis):
+    if not is_axis(ladders, axis):
+        raise NoValue("no such axis")
+    return ladders[axis]
 
 
 def is_level(ladder, thing):

@@ -24,11 +24,11 @@ def read(ladders, table, kept, grain, picks):
     return merged_along(picked_ways(ladders, kept, grain, picks), table)
 
 
-# The keys of a table whose cells are read for picks.
-def keys_read(ladders, table, kept, picks):
+# The part of a table that is read for picks.
+def cells_picked(ladders, table, kept, picks):
     ways = picked_ways(ladders, kept, coarsest(ladders), picks)
-    return [key for key, cell in table if goes_along(ways, key)]
+    return [(key, cell) for key, cell in table if goes_along(ways, key)]
 
 
 def cells_read(ladders, table, kept, picks):
-    return len(keys_read(ladders, table, kept, picks))
+    return len(cells_picked(ladders, table, kept, picks))
