@@ -4,7 +4,7 @@ from cubebook.ladders import line_at
 from cubebook.picks import picked_everywhere
 
 
-# What the question asks of each finest value of a ladder: its value at the level, if it is picked.
+# Two finest values may lie in one cell where the question asks the same of both of them.
 def asked_of(ladder, level, chosen):
     asked = dict([(line[0], ("out", None)) for line in ladder])
     for line in ladder:

@@ -95,7 +95,7 @@ class Book:
     def put_ladder(self, axis, ladder):
         self.axes = self.axes[:axis] + [ladder] + self.axes[axis + 1:]
 
-    # Makes the kept tables anew, and tells what cells changed.
+    # All are made anew from the rows: a cell alone does not tell what is left of it, nor where its rows have gone.
     def tables_renewed(self):
         ahead = self.tables
         self.tables = tables_at(self.axes, self.standing, list(ahead))

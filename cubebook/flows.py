@@ -16,7 +16,8 @@ def cost_levels(costs):
     return sorted(set([level for level, value in costs]))
 
 
-# For each pair (level, value) of the costs the one above it; all that lie beneath a pair come ahead of it.
+# Pairs are the keys (level, value) of the costs. All that lie beneath a pair come ahead of it: a walk over the pairs
+# goes up the tree, a reversed one goes down.
 def pairs_above(ladder, costs):
     above = {}
     levels = cost_levels(costs)
@@ -45,7 +46,7 @@ def least_sum(pair, upper_sum, beneath_costs, costs, chosen):
     return other if spared > costs[pair] else upper_sum
 
 
-# For each pair but the finest ones: what all signs beneath it cost at least where its sum is 0, and where it is 1.
+# There are two costs for each pair, where its sum is 0 and where it is 1: which is better hangs on what lies above.
 def costs_beneath(above, costs, chosen):
     beneath_costs = {}
     for pair in above:
@@ -74,7 +75,6 @@ def fewest(ladder, costs, picked):
 
 
 # Ends are tuples (finest value, times): from where, or to where, paths may still go, and how often.
-# As many of them as a cost lets through.
 def ends_within(ends, cost):
     let = []
     left = cost
@@ -86,7 +86,7 @@ def ends_within(ends, cost):
     return let
 
 
-# Paths between these ends, as many as there can be: of one side or of the other nothing is left then.
+# Any end of one side may meet any of the other, so at last one of the sides has nothing left.
 def paths_between(ones, others):
     paths = []
     place = 0
@@ -108,7 +108,7 @@ def times_of(ends):
     return sum([times for value, times in ends])
 
 
-# What is left of ends when so many times of them are taken, the first ones first.
+# The first ones go first, as they do in paths_between.
 def ends_behind(ends, many):
     left = []
     taken = many

@@ -5,7 +5,6 @@ from cubebook.ladders import whole_of
 from cubebook.words import is_whole
 
 
-# Whether a thing, any thing, is the number of one of the ladders.
 def is_axis(ladders, thing):
     return is_whole(thing) and 0 <= thing < len(ladders)
 
@@ -30,7 +29,6 @@ def finest(ladders):
     return tuple([0 for ladder in ladders])
 
 
-# The grain with the whole of each ladder.
 def coarsest(ladders):
     return tuple([whole_of(ladder) for ladder in ladders])
 

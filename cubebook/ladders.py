@@ -15,8 +15,8 @@ def is_line(thing):
     return all([is_value(value) for value in thing])
 
 
-# Whether the things of a list are lines that go together. How many there may be is asked apart from this,
-# since a line too many is refused otherwise than a line that does not fit.
+# How many lines there may be is asked apart from this: a line too many is refused otherwise than one that
+# does not fit.
 def go_together(lines):
     if not all([is_line(line) for line in lines]):
         return False
@@ -62,7 +62,7 @@ def up(ladder, value, level):
     return lifts(ladder, 0, level)[value]
 
 
-# For each value at one level its value at another one, no finer than the first.
+# The other level is no finer than the first one: a value has one value above it, but several beneath.
 def lifts(ladder, level, other):
     return dict([(line_at(line, level), line_at(line, other)) for line in ladder])
 
@@ -74,6 +74,6 @@ def beneath(ladder, level, value):
     return values_in_order([line[0] for line in ladder if line_at(line, level) == value])
 
 
-# Whether a thing, any thing, is one of the values at a level (None at the whole).
+# By way of beneath, since the thing may be of any kind, also a truth, or one that can't be the key of a dict.
 def is_value_at(ladder, level, thing):
     return len(beneath(ladder, level, thing)) > 0

@@ -28,6 +28,5 @@ def picked(ladders, picks, axis):
     return values_in_order([line[0] for line in lines])
 
 
-# The picked finest values of each axis.
 def picked_everywhere(ladders, picks):
     return [picked(ladders, picks, axis) for axis in range(len(ladders))]

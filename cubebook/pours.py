@@ -23,50 +23,35 @@ def is_change(ladders, thing):
     return is_finest_key(ladders, thing[1]) and is_whole(thing[2])
 
 
-# How often each row stands.
-def counts_of(rows):
-    counts = {}
-    for row in rows:
-        counts[row] = counts.get(row, 0) + 1
-    return counts
-
-
 def row_rank(row):
     return (key_rank(row[0]), row[1])
 
 
-def rows_in_order(counts):
-    rows = []
-    for row in sorted(list(counts), key=row_rank):
-        rows.extend([row] * counts[row])
-    return rows
+def put_in(standing, row):
+    if len(standing) >= MOST_ROWS:
+        raise TooMuch("two hundred rows stand at most")
+    standing.append(row)
 
 
-# How many rows more there are by one change, which is done to the counts.
-def count_change(counts, many, sign, row):
-    if sign == "+":
-        if many >= MOST_ROWS:
-            raise TooMuch("two hundred rows stand at most")
-        counts[row] = counts.get(row, 0) + 1
-        return 1
-    if counts.get(row, 0) < 1:
+def take_out(standing, row):
+    if row not in standing:
         raise NoSuch("no such row stands")
-    counts[row] = counts[row] - 1
-    return -1
+    standing.remove(row)
 
 
-# The rows behind all changes; those handed in stay, so a change that is refused leaves all as it was.
+# All is done to a list beside: the rows handed in stay, so a change that is refused leaves all as it was.
 def poured(ladders, rows, changes):
-    counts = counts_of(rows)
-    many = len(rows)
+    standing = list(rows)
     for change in changes:
         if not is_change(ladders, change):
             raise NoRow("no change of a row")
-        many = many + count_change(counts, many, change[0], (change[1], change[2]))
-    return rows_in_order(counts)
+        if change[0] == "+":
+            put_in(standing, (change[1], change[2]))
+        else:
+            take_out(standing, (change[1], change[2]))
+    return sorted(standing, key=row_rank)
 
 
-# The tables of the rows, by their grains.
 def tables_at(ladders, rows, grains):
     return dict([(grain, table_of(ladders, rows, grain)) for grain in grains])
 
@@ -78,7 +63,7 @@ def keys_changed(ahead, behind):
     return in_order(keys + [key for key in cells_behind if key not in cells_ahead])
 
 
-# What cells came, went or are not what they were, by the tables of the same grains ahead and behind.
+# By the tables alone, not by the changes: what goes out and comes in again in one pouring is no change.
 def cells_changed(ahead, behind):
     changed = []
     for grain in sorted(ahead):

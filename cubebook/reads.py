@@ -8,7 +8,7 @@ from cubebook.picks import picked_everywhere
 from cubebook.tables import goes_along, merged_along
 
 
-# From the values at one level to those at another, but only those with picked finest values beneath them.
+# Values without picked finest values beneath them are left out, so their cells are not read.
 def picked_lifts(ladder, level, other, chosen):
     return dict([(line_at(line, level), line_at(line, other)) for line in ladder if line[0] in chosen])
 
@@ -24,7 +24,7 @@ def read(ladders, table, kept, grain, picks):
     return merged_along(picked_ways(ladders, kept, grain, picks), table)
 
 
-# The part of a table that is read for picks.
+# What is read hangs on the picks alone, not on the question's grain, so any grain would do here.
 def cells_picked(ladders, table, kept, picks):
     ways = picked_ways(ladders, kept, coarsest(ladders), picks)
     return [(key, cell) for key, cell in table if goes_along(ways, key)]

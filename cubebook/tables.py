@@ -11,7 +11,7 @@ def key_at(ladders, key, grain):
     return tuple([up(ladder, key[axis], grain[axis]) for axis, ladder in enumerate(ladders)])
 
 
-# For each axis a dict from the values at one grain to those at another, coarser one.
+# A dict for each axis, made once, so that no key is looked for among the lines again.
 def ways_up(ladders, grain, to):
     return [lifts(ladder, grain[axis], to[axis]) for axis, ladder in enumerate(ladders)]
 
@@ -20,7 +20,7 @@ def goes_along(ways, key):
     return all([value in way for way, value in zip(ways, key)])
 
 
-# The cells whose keys go along the ways, merged where these lead to the same key.
+# Keys that do not go along the ways are left out: so to read a part of a table is the same as to roll all of it.
 def merged_along(ways, table):
     cells = {}
     for key, cell in table:

@@ -52,7 +52,6 @@ def read_whole(text):
     return int(text)
 
 
-# A level or an axis, as grains and picks have them.
 def read_place(text):
     number = read_whole(text)
     if number < 0:
@@ -68,7 +67,6 @@ def read_value_or_whole(text):
     return None if text == "*" else read_value(text)
 
 
-# The parts of a text between such signs; what is no text has none.
 def parts_of(text, sign):
     if not isinstance(text, str):
         raise NoText("no text")

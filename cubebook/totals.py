@@ -9,7 +9,6 @@ from cubebook.picks import is_picks, picked
 from cubebook.reads import cells_picked
 
 
-# For each value of the axis in a table of the grain: the cells that are read for it.
 def cells_by_value(ladders, table, grain, axis, beside):
     cells = {}
     for key, cell in cells_picked(ladders, table, grain, beside):
@@ -17,8 +16,8 @@ def cells_by_value(ladders, table, grain, axis, beside):
     return cells
 
 
-# For each pair (level, value) of the axis that can be read: a grain in which the fewest cells are read for it,
-# and these cells.
+# The cells of a pair (level, value) stand beside their grain: their number is what the pair costs, they themselves
+# are what the total is read from.
 def best_reads(book, axis, picks):
     ladders = book.ladders()
     beside = [pick for pick in picks if pick[0] != axis]
@@ -38,7 +37,7 @@ def costs_of(best):
     return dict([(pair, len(best[pair][1])) for pair in best])
 
 
-# What the four functions below ask first: the ladder of the axis, its picked finest values, and the best reads.
+# The axis is looked at ahead of the picks, since NoValue goes ahead of NoPick.
 def looked_up(book, axis, picks):
     ladders = book.ladders()
     ladder = ladder_on(ladders, axis)
@@ -47,7 +46,6 @@ def looked_up(book, axis, picks):
     return (ladder, picked(ladders, picks, axis), best_reads(book, axis, picks))
 
 
-# The fewest signs, each as a tuple (sign, value, grain, cells).
 def signed_reads(book, axis, picks):
     found = looked_up(book, axis, picks)
     best = found[2]
